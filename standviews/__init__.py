@@ -1,0 +1,1 @@
+"""Standviews: questions that stay, and who watches them from afar."""

@@ -1,0 +1,71 @@
+"""The form of the package: its files, their sizes, what they import, and where the interface is defined."""
+
+import ast
+import importlib
+import inspect
+import pathlib
+import unittest
+
+FOLDER = pathlib.Path(__file__).resolve().parent.parent / "standviews"
+# How many arguments each takes.
+INTERFACE = {
+    "plans": {"is_plan": 1, "is_row": 3},
+    "checks": {"is_check": 2, "holds": 3},
+    "stores": {"empty": 1, "dealt": 3, "net": 3},
+}
+
+
+class Files(unittest.TestCase):
+    def setUp(self):
+        self.texts = {path.name: path.read_text("utf-8") for path in sorted(FOLDER.glob("*.py"))}
+
+    def test_the_folder_holds_nothing_else(self):
+        found = {path.name for path in FOLDER.iterdir()} - {"__pycache__"}
+        self.assertEqual(found, set(self.texts))
+        self.assertIn("__init__.py", found)
+
+    def test_characters_and_sizes(self):
+        for name, text in self.texts.items():
+            with self.subTest(name):
+                self.assertTrue(all(sign == "\n" or " " <= sign <= "~" for sign in text))
+                self.assertLessEqual(len(text.splitlines()), 399)
+                self.assertLessEqual(max(len(line) for line in text.splitlines()), 120)
+
+    def test_functions_have_at_most_forty_lines(self):
+        for name, text in self.texts.items():
+            for node in ast.walk(ast.parse(text)):
+                if isinstance(node, ast.FunctionDef):
+                    with self.subTest(f"{name}: {node.name}"):
+                        self.assertLessEqual(node.end_lineno - node.lineno + 1, 40)
+
+    def test_imports_are_of_the_package_and_name_the_file_that_defines(self):
+        for name, text in self.texts.items():
+            for node in ast.walk(ast.parse(text)):
+                self.assertNotIsInstance(node, ast.Import)
+                if isinstance(node, ast.ImportFrom):
+                    with self.subTest(f"{name}: {node.module}"):
+                        self.assertTrue(node.module.startswith("standviews."))
+                        self.check_defined(node.module.partition(".")[2], [told.name for told in node.names])
+
+    def check_defined(self, module, names):
+        defined = set()
+        for node in ast.parse(self.texts[module + ".py"]).body:
+            if isinstance(node, (ast.FunctionDef, ast.ClassDef)):
+                defined.add(node.name)
+            elif isinstance(node, ast.Assign):
+                defined.add(node.targets[0].id)
+        self.assertLessEqual(set(names), defined)
+
+
+class Interface(unittest.TestCase):
+    def test_functions_are_defined_where_the_interface_lists_them(self):
+        for module, functions in INTERFACE.items():
+            for name, many in functions.items():
+                with self.subTest(f"{module}: {name}"):
+                    function = getattr(importlib.import_module(f"standviews.{module}"), name)
+                    self.assertEqual(function.__module__, f"standviews.{module}")
+                    self.assertEqual(len(inspect.signature(function).parameters), many)
+
+
+if __name__ == "__main__":
+    unittest.main()
