@@ -6,11 +6,14 @@ from standviews.worths import is_number
 LENGTHS = {"is": 3, "below": 3, "like": 3, "not": 2, "and": 3, "or": 3}
 
 
+def has_word(thing):
+    """Whether this is a tuple with a text ahead."""
+    return type(thing) is tuple and len(thing) > 0 and type(thing[0]) is str
+
+
 def has_form(thing):
     """Whether this is a tuple with the word of a check ahead, and as long as that one is."""
-    if type(thing) is not tuple or not thing or type(thing[0]) is not str:
-        return False
-    return LENGTHS.get(thing[0]) == len(thing)
+    return has_word(thing) and LENGTHS.get(thing[0]) == len(thing)
 
 
 def is_check(columns, thing):

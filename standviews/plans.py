@@ -59,6 +59,11 @@ def place_of(named, name):
     return None
 
 
+def places_of(named, names):
+    """The places of these columns, or tables, by their names; None in the place of each that there isn't."""
+    return [place_of(named, name) for name in names]
+
+
 def kind_of(columns, name):
     """The kind of the column of this name; None where there is none."""
     place = place_of(columns, name)

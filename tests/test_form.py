@@ -12,6 +12,10 @@ INTERFACE = {
     "plans": {"is_plan": 1, "is_row": 3},
     "checks": {"is_check": 2, "holds": 3},
     "stores": {"empty": 1, "dealt": 3, "net": 3},
+    "questions": {"is_question": 2, "columns_of": 2},
+    "answers": {"answer": 3},
+    "rights": {"is_right": 3, "seen": 3},
+    "showing": {"show_worth": 1, "show_bag": 1, "show_question": 1, "show_right": 1, "show_entry": 1},
 }
 
 

@@ -67,3 +67,25 @@ def shown(thing):
 def copied(thing):
     """A copy to hold against what was handed in."""
     return copy.deepcopy(thing)
+
+
+def spoilt(thing, path=()):
+    """The thing with one thing in it, itself too, put as another kind: (how, where, the thing so), of each in turn.
+
+    Nothing told here is made of tuples, whole numbers, texts and None alone as the thing is.
+    """
+    if type(thing) is tuple:
+        others = [list(thing), Row(thing)]
+    elif type(thing) is str:
+        others = [Text(thing), thing.encode(), [thing], (thing,), thing.upper(), thing + " ", True]
+    elif type(thing) is int:
+        others = [Whole(thing), str(thing), bool(thing), [thing], (thing,)]
+    else:
+        others = [False]
+    others += [Odd(), object(), b"", {}, [], nested(None, lambda x: (x,)), nested("a", lambda x: [x])]
+    for other in others:
+        yield other.__class__.__name__, path, other
+    if type(thing) is tuple:
+        for at, part in enumerate(thing):
+            for how, where, other in spoilt(part, path + (at,)):
+                yield how, where, thing[:at] + (other,) + thing[at + 1:]
