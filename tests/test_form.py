@@ -16,6 +16,14 @@ INTERFACE = {
     "answers": {"answer": 3},
     "rights": {"is_right": 3, "seen": 3},
     "showing": {"show_worth": 1, "show_bag": 1, "show_question": 1, "show_right": 1, "show_entry": 1},
+    "parts": {"under": 3, "parts_of": 1},
+    "bags": {"changed": 2, "between": 2, "joined": 2},
+}
+# How many arguments each class, and each of its methods, takes by their places.
+CLASSES = {
+    "pieces": ("Pieces", 2, {"need": 1, "leave": 1, "move": 1, "bag": 1, "last": 1, "works": 0, "total": 0,
+                             "__len__": 0}),
+    "lines": ("Line", 2, {"put": 2, "number": 0, "bags": 0, "since": 1, "moments": 0}),
 }
 
 
@@ -69,6 +77,26 @@ class Interface(unittest.TestCase):
                     function = getattr(importlib.import_module(f"standviews.{module}"), name)
                     self.assertEqual(function.__module__, f"standviews.{module}")
                     self.assertEqual(len(inspect.signature(function).parameters), many)
+
+    def test_classes_are_defined_there_with_their_methods_in_their_own_bodies(self):
+        for module, (name, many, methods) in CLASSES.items():
+            made = getattr(importlib.import_module(f"standviews.{module}"), name)
+            with self.subTest(f"{module}: {name}"):
+                self.assertEqual(made.__module__, f"standviews.{module}")
+                self.assertEqual(self.by_place(made), many)
+            for method, takes in methods.items():
+                with self.subTest(f"{name}: {method}"):
+                    self.assertIn(method, vars(made))
+                    self.assertEqual(self.by_place(vars(made)[method]), takes + 1)
+
+    def by_place(self, function):
+        kinds = [parameter.kind for parameter in inspect.signature(function).parameters.values()]
+        return kinds.count(inspect.Parameter.POSITIONAL_OR_KEYWORD)
+
+    def test_kept_of_a_line_goes_by_its_name(self):
+        line = importlib.import_module("standviews.lines")
+        kept = inspect.signature(line.Line).parameters["kept"]
+        self.assertEqual((kept.kind, kept.default), (inspect.Parameter.KEYWORD_ONLY, line.KEPT))
 
 
 if __name__ == "__main__":

@@ -45,10 +45,12 @@ class IsRight(unittest.TestCase):
         self.yes((None, ()), (IS, ()), (None, ALL), (IS, ALL))
 
     def test_names_out_of_the_order_or_twice(self):
-        self.no((None, ("s", "k")), (None, ("k", "n", "s")), (None, ("k", "k")), (None, ("k", "s", "s")), (IS, ("n", "k")))
+        self.no((None, ("s", "k")), (None, ("k", "n", "s")), (None, ("k", "k")), (None, ("k", "s", "s")),
+                (IS, ("n", "k")))
 
     def test_columns_that_are_not_the_table_s(self):
-        self.no((None, ("id",)), (None, ("k", "x")), (None, ("x", "k")), (None, ("",)), (None, (None,)), (None, ("aa",)))
+        self.no((None, ("id",)), (None, ("k", "x")), (None, ("x", "k")), (None, ("",)), (None, (None,)),
+                (None, ("aa",)))
         self.assertIs(is_right(PLAN, "bb", (None, ("id", "m"))), True)
         self.assertIs(is_right(PLAN, "bb", (None, ALL)), False)
 

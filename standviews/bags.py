@@ -1,0 +1,42 @@
+"""Changes of bags."""
+
+from standviews.worths import bag_of
+
+# The change that changes nothing.
+UNCHANGED = ((), ())
+
+
+def balance(more, less):
+    """How often each row is in the bags of the one side more often than in those of the other."""
+    many = {}
+    for bag in more:
+        for row in bag:
+            many[row] = many.get(row, 0) + 1
+    for bag in less:
+        for row in bag:
+            many[row] = many.get(row, 0) - 1
+    return many
+
+
+def surplus(more, less):
+    """The bag of what the bags of the one side have more than those of the other."""
+    many = balance(more, less)
+    return bag_of([row for row in many for _ in range(many[row])])
+
+
+def changed(bag, change):
+    """The bag behind the change."""
+    gone, come = change
+    return surplus((bag, come), (gone,))
+
+
+def between(bag, other):
+    """The change that leads from the one bag to the other."""
+    return (surplus((bag,), (other,)), surplus((other,), (bag,)))
+
+
+def joined(one, two):
+    """The one change that does what these two do, one behind the other."""
+    gone = (one[0], two[0])
+    come = (one[1], two[1])
+    return (surplus(gone, come), surplus(come, gone))
