@@ -121,6 +121,13 @@ def question_rows(plan, question, store):
     return form_rows(question, columns, [question_rows(plan, inner, store) for inner in within])
 
 
+def standing(plan, question, bag):
+    """The rows of the bag as the question's answer stands."""
+    if question[0] == "first":
+        return tuple(in_order(columns_of(plan, question), question[2], bag))
+    return bag
+
+
 def answer(plan, question, store):
     """The answer of the question over the store, or over what is seen of one."""
     rows = question_rows(plan, question, store)

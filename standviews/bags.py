@@ -1,9 +1,24 @@
 """Changes of bags."""
 
-from standviews.worths import bag_of
+from standviews.worths import bag_of, is_worth
 
 # The change that changes nothing.
 UNCHANGED = ((), ())
+
+
+def is_bag_row(thing):
+    """Whether this is a row as bags have them."""
+    return type(thing) is tuple and all([is_worth(worth) for worth in thing])
+
+
+def is_bag(thing):
+    """Whether this is a tuple of rows, rising or not."""
+    return type(thing) is tuple and all([is_bag_row(row) for row in thing])
+
+
+def is_change(thing):
+    """Whether this is a tuple of two such."""
+    return type(thing) is tuple and len(thing) == 2 and all([is_bag(bag) for bag in thing])
 
 
 def balance(more, less):

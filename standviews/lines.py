@@ -51,3 +51,22 @@ class Line:
         """The numbers from the oldest that the kept changes lead from, each with the moment at which it began."""
         oldest = self._newest - len(self._changes)
         return tuple(enumerate(self._begun, start=oldest))
+
+    def kept_steps(self):
+        """What led on from the oldest of moments, the eldest ahead: (the moment at which a number began, changes)."""
+        return tuple(zip(self._begun[1:], self._changes))
+
+    def count_on(self, number):
+        """Its newest number is this from now on."""
+        self._newest = number
+
+
+def line_up_to(bags, steps, oldest, when, kept):
+    """The line whose newest answers are these bags, by these steps from the oldest number, which began then."""
+    for _, changes in reversed(steps):
+        bags = tuple([changed(bag, (come, gone)) for bag, (gone, come) in zip(bags, changes)])
+    line = Line(bags, when, kept=kept)
+    line.count_on(oldest)
+    for moment, changes in steps:
+        line.put(changes, moment)
+    return line

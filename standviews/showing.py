@@ -75,11 +75,16 @@ def show_question(question):
     return " ".join(form_words(question) + [show_question(inner) for inner in just_within(question)])
 
 
+def show_table_row(table, row):
+    """The table and a row of it, written."""
+    return " ".join([table, *[show_worth(worth) for worth in row]])
+
+
 def show_change(change):
     """A dealing's change, written."""
     word, table, thing = change
     if word == "put":
-        return " ".join([word, table, *[show_worth(worth) for worth in thing]])
+        return f"{word} {show_table_row(table, thing)}"
     return " ".join([word, table, show_worth(thing)])
 
 

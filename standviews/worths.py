@@ -13,6 +13,11 @@ def is_whole(thing):
     return type(thing) is int
 
 
+def is_count(thing):
+    """Whether this is a whole number from 0, however great."""
+    return is_whole(thing) and thing >= 0
+
+
 def is_number(thing):
     """Whether this is a number as a worth may be one."""
     return is_whole(thing) and -GREATEST <= thing <= GREATEST
@@ -23,6 +28,11 @@ def is_name(thing):
     if type(thing) is not str or not 1 <= len(thing) <= LONGEST:
         return False
     return all(["a" <= letter <= "z" for letter in thing])
+
+
+def is_worth(thing):
+    """Whether this is a worth, maybe a sum's, however great."""
+    return thing is None or is_whole(thing) or is_name(thing)
 
 
 def worth_place(worth):

@@ -18,13 +18,22 @@ INTERFACE = {
     "showing": {"show_worth": 1, "show_bag": 1, "show_question": 1, "show_right": 1, "show_entry": 1},
     "parts": {"under": 3, "parts_of": 1},
     "bags": {"changed": 2, "between": 2, "joined": 2},
+    "reading": {"read_question": 1, "read_right": 1, "read_entry": 2},
 }
 # How many arguments each class, and each of its methods, takes by their places.
 CLASSES = {
     "pieces": ("Pieces", 2, {"need": 1, "leave": 1, "move": 1, "bag": 1, "last": 1, "works": 0, "total": 0,
                              "__len__": 0}),
     "lines": ("Line", 2, {"put": 2, "number": 0, "bags": 0, "since": 1, "moments": 0}),
+    "glasses": ("Glass", 3, {"hear": 1, "mark": 0, "rows": 0, "say": 0, "cut": 0}),
+    "roads": ("Road", 0, {"put": 1, "letters": 0, "bring": 1, "lose": 1, "double": 1}),
+    "houses": ("House", 1, {"deal": 1, "right": 3, "watch": 2, "end": 1, "moment": 0, "store": 0, "rights": 1,
+                            "watchers": 0, "line": 1, "works": 0, "total": 0, "mark": 1, "beat": 1, "heard": 1,
+                            "turn": 1, "written": 0, "fold": 0, "begun": 0, "past": 1}),
 }
+# What goes by its name alone, where it stands, and the constant that it is where it is left out.
+BY_NAME = (("lines", "Line", "kept", "lines", "KEPT"), ("roads", "Road", "room", "roads", "ROOM"),
+           ("houses", "House", "kept", "lines", "KEPT"))
 
 
 class Files(unittest.TestCase):
@@ -93,10 +102,15 @@ class Interface(unittest.TestCase):
         kinds = [parameter.kind for parameter in inspect.signature(function).parameters.values()]
         return kinds.count(inspect.Parameter.POSITIONAL_OR_KEYWORD)
 
-    def test_kept_of_a_line_goes_by_its_name(self):
-        line = importlib.import_module("standviews.lines")
-        kept = inspect.signature(line.Line).parameters["kept"]
-        self.assertEqual((kept.kind, kept.default), (inspect.Parameter.KEYWORD_ONLY, line.KEPT))
+    def test_what_goes_by_its_name_alone(self):
+        for module, name, given, other, constant in BY_NAME:
+            with self.subTest(f"{module}: {name}"):
+                told = getattr(importlib.import_module(f"standviews.{module}"), name)
+                parameters = inspect.signature(told).parameters
+                named = [each for each in parameters.values() if each.kind == inspect.Parameter.KEYWORD_ONLY]
+                self.assertEqual([each.name for each in named], [given])
+                self.assertEqual(named[0].default,
+                                 getattr(importlib.import_module(f"standviews.{other}"), constant))
 
 
 if __name__ == "__main__":
