@@ -90,7 +90,7 @@ class House:
         self._many += 1
         pieces = self._need(person, questions)
         self._watching[w] = Watcher(person, questions, pieces,
-                                    Line(self._bags(pieces), self._moment, kept=self._most))
+                                    Line(self._bags_of(pieces), self._moment, kept=self._most))
         self._write(("watch", person, questions))
         return w
 
@@ -184,7 +184,7 @@ class House:
             self._give(person, table, right)
         for line in picture.lines:
             pieces = self._need(line.person, line.questions)
-            answers = line_up_to(self._bags(pieces), line.steps, line.oldest, line.when, self._most)
+            answers = line_up_to(self._bags_of(pieces), line.steps, line.oldest, line.when, self._most)
             self._watching[line.w] = Watcher(line.person, line.questions, pieces, answers)
         self._begin(picture_rows(picture))
 
@@ -244,7 +244,7 @@ class House:
         for piece in pieces:
             self._pieces.leave(piece)
 
-    def _bags(self, pieces):
+    def _bags_of(self, pieces):
         """The bags of these pieces."""
         return tuple([self._pieces.bag(piece) for piece in pieces])
 
@@ -255,7 +255,7 @@ class House:
             watcher.pieces = self._need(watcher.person, watcher.questions)
         # Only when all new ones are needed: a piece that stays keeps how often it was worked.
         for watcher, pieces in zip(watchers, elder):
-            changes = [between(bag, other) for bag, other in zip(self._bags(pieces), self._bags(watcher.pieces))]
+            changes = [between(bag, other) for bag, other in zip(self._bags_of(pieces), self._bags_of(watcher.pieces))]
             watcher.answers.put(tuple(changes), self._moment)
         for pieces in elder:
             self._leave(pieces)

@@ -78,10 +78,13 @@ class House:
         elif word == "right" and (entry[2] not in dict(self.plan) or entry[3] in self.bad_rights):
             raise Refused("NoRight")
         elif word == "watch" and (type(entry[2]) is not tuple or not 1 <= len(entry[2]) <= 3
-                                  or any(type(question) is not tuple or question in self.bad_questions for question in entry[2])):
+                                  or any(self.is_bad(question) for question in entry[2])):
             raise Refused("NoQuestion")
         elif word == "end":
             self.found(entry[1])
+
+    def is_bad(self, question):
+        return type(question) is not tuple or question in self.bad_questions
 
     def do(self, entry):
         self.check(entry)

@@ -19,6 +19,7 @@ INTERFACE = {
     "parts": {"under": 3, "parts_of": 1},
     "bags": {"changed": 2, "between": 2, "joined": 2},
     "reading": {"read_question": 1, "read_right": 1, "read_entry": 2},
+    "papers": {"paper": 2, "shows_paper": 3},
 }
 # How many arguments each class, and each of its methods, takes by their places.
 CLASSES = {
@@ -30,10 +31,13 @@ CLASSES = {
     "houses": ("House", 1, {"deal": 1, "right": 3, "watch": 2, "end": 1, "moment": 0, "store": 0, "rights": 1,
                             "watchers": 0, "line": 1, "works": 0, "total": 0, "mark": 1, "beat": 1, "heard": 1,
                             "turn": 1, "written": 0, "fold": 0, "begun": 0, "past": 1}),
+    "scenes": ("Scene", 1, {"step": 1, "walk": 1, "house": 0, "glass": 1, "road": 1, "back": 1, "rounds": 1}),
+    "desk": ("Desk", 1, {"say": 1, "say_all": 1, "log": 0}),
 }
-# What goes by its name alone, where it stands, and the constant that it is where it is left out.
-BY_NAME = (("lines", "Line", "kept", "lines", "KEPT"), ("roads", "Road", "room", "roads", "ROOM"),
-           ("houses", "House", "kept", "lines", "KEPT"))
+# What goes by its name alone, each with the constant that it is where it is left out.
+BY_NAME = (("lines", "Line", {"kept": ("lines", "KEPT")}), ("roads", "Road", {"room": ("roads", "ROOM")}),
+           ("houses", "House", {"kept": ("lines", "KEPT")}), ("coming", "come_up", {"kept": ("lines", "KEPT")}),
+           ("scenes", "Scene", {"kept": ("lines", "KEPT"), "room": ("roads", "ROOM")}))
 
 
 class Files(unittest.TestCase):
@@ -103,14 +107,21 @@ class Interface(unittest.TestCase):
         return kinds.count(inspect.Parameter.POSITIONAL_OR_KEYWORD)
 
     def test_what_goes_by_its_name_alone(self):
-        for module, name, given, other, constant in BY_NAME:
+        for module, name, constants in BY_NAME:
             with self.subTest(f"{module}: {name}"):
                 told = getattr(importlib.import_module(f"standviews.{module}"), name)
-                parameters = inspect.signature(told).parameters
-                named = [each for each in parameters.values() if each.kind == inspect.Parameter.KEYWORD_ONLY]
-                self.assertEqual([each.name for each in named], [given])
-                self.assertEqual(named[0].default,
-                                 getattr(importlib.import_module(f"standviews.{other}"), constant))
+                self.by_name(told, {given: getattr(importlib.import_module(f"standviews.{other}"), constant)
+                                    for given, (other, constant) in constants.items()})
+
+    def by_name(self, function, constants):
+        parameters = inspect.signature(function).parameters.values()
+        named = {each.name: each.default for each in parameters if each.kind == inspect.Parameter.KEYWORD_ONLY}
+        self.assertEqual(named, constants)
+
+    def test_come_up_and_say_all(self):
+        coming, desk = importlib.import_module("standviews.coming"), importlib.import_module("standviews.desk")
+        self.assertEqual((coming.come_up.__module__, self.by_place(coming.come_up)), ("standviews.coming", 2))
+        self.by_name(desk.Desk.say_all, {"keep": desk.KEEP})
 
 
 if __name__ == "__main__":

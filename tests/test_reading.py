@@ -220,7 +220,8 @@ class Questions(Reading):
     def test_read_and_written_again(self):
         """Where a text with one word put as another one is read at all, it is written as it is."""
         chance = random.Random(26)
-        others = ("all", "aa", "k", "~", "0", "1", "2", "-1", "10", "up", "count", "is", "not", "once", "see", "none", "")
+        others = ("all", "aa", "k", "~", "0", "1", "2", "-1", "10", "up", "count", "is", "not", "once", "see", "none",
+                  "")
         read = 0
         for question in making.of_each_word(chance, 60, 6):
             words = show_question(question).split(" ")
