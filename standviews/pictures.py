@@ -133,11 +133,12 @@ def begun_picture(text):
 def read_picture(plan, rows):
     """The picture that these rows begin with, and how many of them are its; NoText at the first that is refused."""
     picture = begun_picture(rows[0])
-    for at in range(1, len(rows)):
-        if rows[at] == LAST:
-            return (picture, at + 1)
+    if LAST not in rows:
+        raise NoText(len(rows))
+    end = rows.index(LAST)
+    for at in range(1, end):
         try:
             take_picture_row(plan, picture, rows[at])
         except NoText:
             raise NoText(at) from None
-    raise NoText(len(rows))
+    return (picture, end + 1)

@@ -266,6 +266,13 @@ class Folded(Up):
         self.refuses("picture 3 2\nrow aa 1 a\n", 2)
         self.refuses("picture 3 2\nrow aa 1 a\nentries", 2)
 
+    def test_entries_lacks_with_other_rows_behind(self):
+        for at in (0, 4, 7, 13):
+            text = made(folds=(at,)).written()
+            self.refuses(text.replace("entries\n", ""), text.count("\n") - 1)
+        self.refuses("picture 3 2\nbogus\n", 2)
+        self.refuses("picture 3\nbogus\n", 0)
+
     def test_rows_behind_a_picture_are_counted_with_its_own(self):
         text = made(folds=(14,)).written()
         many = text.count("\n")
